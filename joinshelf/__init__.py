@@ -1,0 +1,1 @@
+"""Joinshelf: runs on a shelf, and what their joining surely costs."""
