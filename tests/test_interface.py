@@ -1,0 +1,70 @@
+"""That the names, arguments and files of the interface are there, and the package's outer form."""
+
+import ast
+import inspect
+import pathlib
+import unittest
+
+import joinshelf
+from joinshelf import feeds, plans, runs, trees, wides, windows
+
+FOLDER = pathlib.Path(joinshelf.__file__).parent
+
+FUNCTIONS = {
+    feeds: ["is_batch(thing)", "sight(feed, hour)", "value_at(feed, hour, key)"],
+    runs: ["run_of(feed, first, last)", "run_sizes(feed)", "is_shelf(feed, thing)", "look(feed, shelf, hour, key)"],
+    windows: ["is_table(thing)", "windows(feed)", "comes_next(feed)", "windows_bar(table)", "feed_of(table)"],
+    plans: ["is_plan(hours, thing)", "shelf_behind(plan, hour)", "shelves(plan)", "all_plans(hours, most)",
+            "widest(plan)", "count_plans(hours, most)", "plan_number(most, plan)", "plan_at(hours, most, number)"],
+    trees: ["tree_of(plan)", "is_tree(hours, thing)", "plan_of(tree)", "times_written(plan)", "runs_at(plan)"],
+    wides: ["is_wide(hours, thing)", "wide_of(plan)", "wide_writes(wide)", "straightened(wide)"],
+}
+
+
+class InterfaceTest(unittest.TestCase):
+
+    def test_functions(self):
+        for module, told in FUNCTIONS.items():
+            for line in told:
+                function = getattr(module, line.partition("(")[0])
+                self.assertTrue(inspect.isfunction(function))
+                self.assertEqual(function.__name__ + str(inspect.signature(function)), line)
+                self.assertEqual(function.__module__, module.__name__)
+
+    def test_feed_class(self):
+        self.assertEqual(feeds.Feed.__module__, "joinshelf.feeds")
+        self.assertEqual(str(inspect.signature(feeds.Feed)), "(batches, kept)")
+        self.assertIn("__eq__", vars(feeds.Feed))
+        self.assertEqual(feeds.Feed.__bases__, (object,))
+
+
+class FormTest(unittest.TestCase):
+
+    def test_only_python_files(self):
+        names = [path.name for path in FOLDER.iterdir() if path.name != "__pycache__"]
+        self.assertTrue(all(name.endswith(".py") and name == name.lower() for name in names), names)
+        self.assertIn("__init__.py", names)
+
+    def test_sizes_and_characters(self):
+        for path in FOLDER.glob("*.py"):
+            text = path.read_text(encoding="utf-8")
+            lines = text.split("\n")
+            self.assertLessEqual(len(lines), 399, path)
+            self.assertTrue(all(len(line) <= 120 and line == line.rstrip() for line in lines), path)
+            self.assertTrue(all(" " <= sign <= "~" or sign == "\n" for sign in text), path)
+            for node in ast.walk(ast.parse(text)):
+                if isinstance(node, ast.FunctionDef):
+                    self.assertLessEqual(node.end_lineno - node.lineno + 1, 40, (path, node.name))
+
+    def test_imports(self):
+        for path in FOLDER.glob("*.py"):
+            for node in ast.walk(ast.parse(path.read_text(encoding="utf-8"))):
+                self.assertNotIsInstance(node, ast.Import, path)
+                if isinstance(node, ast.ImportFrom):
+                    self.assertEqual(node.level, 0, path)
+                    known = node.module in ("heapq", "math", "itertools", "collections")
+                    self.assertTrue(known or node.module.startswith("joinshelf."), path)
+
+
+if __name__ == "__main__":
+    unittest.main()
