@@ -24,6 +24,11 @@ def is_pair(thing):
     return is_tuple_of(2, 2, thing)
 
 
+def is_row(many, high, thing):
+    """Whether a thing is a tuple of so many integers from 0 to high."""
+    return is_tuple_of(many, many, thing) and all([is_between(0, high, number) for number in thing])
+
+
 def is_ascending(numbers):
     """Whether each of some integers is above the one ahead of it."""
     return all([low < high for low, high in zip(numbers, numbers[1:])])

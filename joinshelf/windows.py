@@ -1,6 +1,6 @@
 """Tables of the numbers of unlike keys in stretches of some batches."""
 
-from joinshelf.checks import is_between, is_tuple_of
+from joinshelf.checks import is_row, is_tuple_of
 from joinshelf.errors import NoTable, TooMany
 from joinshelf.feeds import MOST_PAIRS, Feed
 
@@ -12,12 +12,7 @@ def is_table(thing):
     """Whether a thing is a table."""
     if not is_tuple_of(1, MOST_ROWS, thing):
         return False
-    return all([is_row(len(thing) - first, row) for first, row in enumerate(thing)])
-
-
-def is_row(many, thing):
-    """Whether a thing is a row of so many entries of a table."""
-    return is_tuple_of(many, many, thing) and all([is_between(0, MOST_ENTRY, entry) for entry in thing])
+    return all([is_row(len(thing) - first, MOST_ENTRY, row) for first, row in enumerate(thing)])
 
 
 def windows(feed):

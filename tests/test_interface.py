@@ -6,7 +6,7 @@ import pathlib
 import unittest
 
 import joinshelf
-from joinshelf import feeds, plans, runs, trees, wides, windows
+from joinshelf import costs, feeds, leasts, plans, runs, tasks, trees, wides, windows
 
 FOLDER = pathlib.Path(joinshelf.__file__).parent
 
@@ -18,6 +18,11 @@ FUNCTIONS = {
             "widest(plan)", "count_plans(hours, most)", "plan_number(most, plan)", "plan_at(hours, most, number)"],
     trees: ["tree_of(plan)", "is_tree(hours, thing)", "plan_of(tree)", "times_written(plan)", "runs_at(plan)"],
     wides: ["is_wide(hours, thing)", "wide_of(plan)", "wide_writes(wide)", "straightened(wide)"],
+    tasks: ["task_of(feed, looked)", "task_of_sizes(sizes, look)", "task_part(task, first, last)"],
+    costs: ["written(task, plan)", "looked_at(task, plan)", "cost(task, plan)", "greatest_written(task, plan)",
+            "wide_cost(task, wide)", "wide_greatest(task, wide)"],
+    leasts: ["least(task, most)", "count_least(task, most)", "alike_least(hours, write, look, most)",
+             "least_plan(task, most)", "all_least(task, most)"],
 }
 
 
@@ -31,11 +36,12 @@ class InterfaceTest(unittest.TestCase):
                 self.assertEqual(function.__name__ + str(inspect.signature(function)), line)
                 self.assertEqual(function.__module__, module.__name__)
 
-    def test_feed_class(self):
-        self.assertEqual(feeds.Feed.__module__, "joinshelf.feeds")
-        self.assertEqual(str(inspect.signature(feeds.Feed)), "(batches, kept)")
-        self.assertIn("__eq__", vars(feeds.Feed))
-        self.assertEqual(feeds.Feed.__bases__, (object,))
+    def test_classes(self):
+        for made, module, told in [(feeds.Feed, feeds, "(batches, kept)"), (tasks.Task, tasks, "(writes, looks)")]:
+            self.assertEqual(made.__module__, module.__name__)
+            self.assertEqual(str(inspect.signature(made)), told)
+            self.assertIn("__eq__", vars(made))
+            self.assertEqual(made.__bases__, (object,))
 
 
 class FormTest(unittest.TestCase):

@@ -5,7 +5,7 @@ import unittest
 from joinshelf.errors import NoTable, TooMany
 from joinshelf.feeds import Feed
 from joinshelf.windows import comes_next, feed_of, is_table, windows, windows_bar
-from tests.things import BIG, F, Checks, full_feed, is_int, nested, rows_of_random_feeds
+from tests.things import BIG, F, Checks, full_feed, is_int, laid_out, nested, rows_of_random_feeds
 
 
 def table_by_words(thing):
@@ -17,10 +17,6 @@ def table_by_words(thing):
         if not all(is_int(entry) and 0 <= entry <= 1000 for entry in row):
             return False
     return True
-
-
-def laid_out(hours, entry):
-    return tuple(tuple(entry(a, m) for m in range(a, hours)) for a in range(hours))
 
 
 def keys_of(feed, hour):

@@ -6,10 +6,14 @@ import unittest
 
 from joinshelf import errors
 from joinshelf.feeds import Feed
+from joinshelf.tasks import Task, task_of_sizes
 
 BIG = 10 ** 60 - 1
 
 F = Feed((((1, 5), (2, 7)), ((1, None),), ((2, 8), (3, 1))), (0,))
+
+# The document's `t`.
+T = task_of_sizes((1, 2, 1), 1)
 
 # What each error class is made with.
 FIELDS = {
@@ -32,7 +36,7 @@ def package_objects():
     """An object of each class of the package, and the classes themselves."""
     classes = [getattr(errors, name) for name in FIELDS]
     made = [getattr(errors, name)(*fields) for name, fields in FIELDS.items()]
-    return made + classes + [F, Feed, errors.ShelfError, errors.ShelfError()]
+    return made + classes + [F, Feed, T, Task, errors.ShelfError, errors.ShelfError()]
 
 
 def plain_things():
@@ -125,6 +129,51 @@ def all_plans_by_words(hours):
                 longer.append((plan + (begin,), stands + (behind,)))
         found = longer
     return found
+
+
+def laid_out(hours, entry):
+    """The tuple with, for each hour a, the tuple of the entries (a, m) for each hour m from a on."""
+    return tuple(tuple(entry(a, m) for m in range(a, hours)) for a in range(hours))
+
+
+def random_task(chance, hours, write, look):
+    """A task of so many hours with random prices up to these."""
+    return Task(laid_out(hours, lambda a, m: chance.randint(0, write)),
+                laid_out(hours, lambda a, t: chance.randint(0, look)))
+
+
+def even_task(hours, write, look):
+    """A task whose stretches all cost write, and whose looks all cost look."""
+    return Task(laid_out(hours, lambda a, m: write), laid_out(hours, lambda a, t: look))
+
+
+def varied_tasks(seed, many, hours):
+    """Tasks of 1 to so many hours, with dear and cheap prices, and such that are all alike or all 0."""
+    chance = random.Random(seed)
+    for n in range(1, hours + 1):
+        yield from [even_task(n, 0, 0), even_task(n, 3, 0), even_task(n, 0, 2), even_task(n, 1, 1)]
+        for _ in range(many):
+            yield random_task(chance, n, chance.choice([1, 3, 50, 10 ** 9]), chance.choice([0, 1, 3, 50, 10 ** 9]))
+
+
+def written_by_words(task, plan):
+    """What each hour's writing costs."""
+    return [task.writes[begin][hour - begin] for hour, begin in enumerate(plan)]
+
+
+def looked_by_words(task, stands):
+    """What each hour's looks cost, stands telling the begins behind each hour."""
+    return [sum(task.looks[begin][hour - begin] for begin in begins) for hour, begins in enumerate(stands)]
+
+
+def cost_by_words(task, plan, stands):
+    """What a plan costs, stands telling the begins behind each hour."""
+    return sum(written_by_words(task, plan)) + sum(looked_by_words(task, stands))
+
+
+def fitting_plans(hours, most):
+    """All plans of so many hours that never have more than so many runs, with their begins behind each hour."""
+    return [told for told in all_plans_by_words(hours) if max(map(len, told[1])) <= most]
 
 
 class Checks(unittest.TestCase):
