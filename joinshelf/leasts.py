@@ -42,6 +42,11 @@ def least_row(write_row, above):
     return row
 
 
+def with_looks(row, look_row):
+    """A row of costs from the begin of a run to each hour from there on, with what its looks cost until then."""
+    return [price + looked for price, looked in zip(row, accumulate(look_row))]
+
+
 def stand_tables(writes, looks, most):
     """The list with, for each number of runs from 0 to most, a table of least costs.
 
@@ -49,22 +54,33 @@ def stand_tables(writes, looks, most):
     to the other, and at most so many with it, looks counted. For no runs
     there are no rows. More runs than hours are never needed, and left out.
     """
+    hours = len(writes)
+    top = min(most, hours)
     tables = [[]]
-    for _ in range(min(most, len(writes))):
+    for runs in range(1, top + 1):
         above = tables[-1]
         table = []
-        for first, look_row in enumerate(looks):
-            row = least_row(writes[first], above[first + 1:])
-            table.append([price + looked for price, looked in zip(row, accumulate(look_row))])
+        for first in range(hours):
+            if first < top - runs:
+                # A run never stands above more runs than there are hours ahead of it.
+                table.append([])
+            elif hours - first < runs:
+                # Nor do more runs stand than there are hours from its begin on.
+                table.append(above[first])
+            else:
+                table.append(with_looks(least_row(writes[first], above[first + 1:]), looks[first]))
         tables.append(table)
     return tables
 
 
-def least_tables(task, most):
-    """The list with, for each number of runs from 1 to most, the table of the costs p of a floor, the greatest ones."""
-    aboves = stand_tables(task.writes, task.looks, most)[:-1]
-    tables = [[least_row(row, above[first + 1:]) for first, row in enumerate(task.writes)] for above in aboves]
-    return tables + [tables[-1]] * (most - len(tables))
+def told_price(hours, price):
+    """A price as one of the costs that also tell plans of so many hours."""
+    return price << (BEGIN_BITS * hours)
+
+
+def begin_place(hours, hour):
+    """How far the begin that is written at an hour stands from the lowest figure."""
+    return BEGIN_BITS * (hours - hour - 1)
 
 
 def with_begins(writes, looks):
@@ -75,18 +91,20 @@ def with_begins(writes, looks):
     least cost.
     """
     hours = len(writes)
-    whole = BEGIN_BITS * hours
     told = []
     for begin, row in enumerate(writes):
-        places = [whole - BEGIN_BITS * (begin + at + 1) for at in range(len(row))]
-        told.append([(price << whole) + (begin << place) for price, place in zip(row, places)])
-    return told, [[price << whole for price in row] for row in looks]
+        begins = [begin << begin_place(hours, begin + at) for at in range(len(row))]
+        told.append([told_price(hours, price) + place for price, place in zip(row, begins)])
+    return told, [[told_price(hours, price) for price in row] for row in looks]
 
 
 def cost_and_plan(hours, told):
-    """The pair of the cost and the plan that a cost with begins tells."""
-    places = [BEGIN_BITS * (hours - hour - 1) for hour in range(hours)]
-    return told >> (BEGIN_BITS * hours), tuple([(told >> place) & ((1 << BEGIN_BITS) - 1) for place in places])
+    """The pair of the cost and the plan that one of the costs that also tell plans tells.
+
+    For hours that it tells nothing of, the begin is 0.
+    """
+    begins = [(told >> begin_place(hours, hour)) & ((1 << BEGIN_BITS) - 1) for hour in range(hours)]
+    return told >> (BEGIN_BITS * hours), tuple(begins)
 
 
 def least(task, most):
@@ -105,12 +123,12 @@ def least_plan(task, most):
 
 
 def cost_by_top(task, tables, runs, first, last, top):
-    """What a stretch costs with this top, as tables tell what its parts cost."""
-    price = task.writes[first][top - first]
+    """What a stretch costs with this top, looks counted, as tables tell what its parts cost."""
+    price = task.writes[first][top - first] + sum(task.looks[first][top - first:last - first + 1])
     if top > first:
-        price += tables[runs - 1][first][top - first - 1]
+        price += tables[runs][first][top - first - 1]
     if top < last:
-        price += tables[runs - 2][top + 1][last - top - 1] + sum(task.looks[top + 1][:last - top])
+        price += tables[runs - 1][top + 1][last - top - 1]
     return price
 
 
@@ -121,7 +139,7 @@ def tops_of(runs, first, last):
 
 def least_tops(task, tables, runs, first, last):
     """The list of the tops with which a stretch costs least."""
-    best = tables[runs - 1][first][last - first]
+    best = tables[runs][first][last - first]
     tops = tops_of(runs, first, last)
     return [top for top in tops if cost_by_top(task, tables, runs, first, last, top) == best]
 
@@ -159,14 +177,16 @@ def count_least(task, most):
     """How many plans have the least cost."""
     if not is_most(most):
         raise NoNumber()
-    return count_ways(task, least_tables(task, most), {}, most, 0, len(task.writes) - 1)
+    tables = stand_tables(task.writes, task.looks, most)
+    return count_ways(task, tables, {}, len(tables) - 1, 0, len(task.writes) - 1)
 
 
 def all_least(task, most):
     """The ascending list of the plans of the least cost."""
     if count_least(task, most) > MOST_LEAST:
         raise TooMany(MOST_LEAST)
-    return sorted(least_ways(task, least_tables(task, most), {}, most, 0, len(task.writes) - 1))
+    tables = stand_tables(task.writes, task.looks, most)
+    return sorted(least_ways(task, tables, {}, len(tables) - 1, 0, len(task.writes) - 1))
 
 
 def alike_least(hours, write, look, most):

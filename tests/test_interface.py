@@ -6,7 +6,8 @@ import pathlib
 import unittest
 
 import joinshelf
-from joinshelf import costs, feeds, leasts, plans, runs, tasks, trees, wides, windows
+from joinshelf import (costs, feeds, floors, leasts, plans, rests, rules, runs, tasks, trades, trees, wides,
+                       windows)
 
 FOLDER = pathlib.Path(joinshelf.__file__).parent
 
@@ -23,6 +24,11 @@ FUNCTIONS = {
             "wide_cost(task, wide)", "wide_greatest(task, wide)"],
     leasts: ["least(task, most)", "count_least(task, most)", "alike_least(hours, write, look, most)",
              "least_plan(task, most)", "all_least(task, most)"],
+    floors: ["is_floor(task, most, thing)", "bound_of(task, most, thing)", "floor(task, most)"],
+    rules: ["keeps(task, plan, rules)", "least_under(task, most, rules)"],
+    rests: ["rest(task, most, begun)", "choices_at(task, most, hour)", "dearer(task, most, hour, begin)"],
+    trades: ["trade(task, most)", "front(task, most)", "corners(task, most)", "at_price(task, most, price)",
+             "steadiest(task, most)"],
 }
 
 
