@@ -140,6 +140,12 @@ def is_less(one, other):
     return one[0] * other[1] < other[0] * one[1]
 
 
+def lowest_terms(ratio):
+    """The fraction that a ratio is."""
+    parts = gcd(ratio[0], ratio[1])
+    return (ratio[0] // parts, ratio[1] // parts)
+
+
 def plans_with_ratios(task, most):
     """The list of the pairs of a plan's greatest ratio of its cost so far to the least one, and of the plan, ascending.
 
@@ -170,5 +176,4 @@ def steadiest(task, most):
     for another, other in ways[1:]:
         if is_less(another, ratio):
             ratio, plan = another, other
-    parts = gcd(ratio[0], ratio[1])
-    return ((ratio[0] // parts, ratio[1] // parts), plan)
+    return (lowest_terms(ratio), plan)

@@ -6,8 +6,8 @@ import pathlib
 import unittest
 
 import joinshelf
-from joinshelf import (costs, feeds, floors, leasts, plans, rests, rules, runs, tasks, trades, trees, wides,
-                       windows)
+from joinshelf import (burdens, costs, feeds, floors, games, keepers, leasts, plans, rests, rules, runs, tasks, trades,
+                       trees, wides, windows)
 
 FOLDER = pathlib.Path(joinshelf.__file__).parent
 
@@ -29,6 +29,12 @@ FUNCTIONS = {
     rests: ["rest(task, most, begun)", "choices_at(task, most, hour)", "dearer(task, most, hour, begin)"],
     trades: ["trade(task, most)", "front(task, most)", "corners(task, most)", "at_price(task, most, price)",
              "steadiest(task, most)"],
+    burdens: ["least_writing(sizes, most)", "writing(sizes, plan)", "weight(sizes, most, thing)",
+              "by_credits(sizes, most)", "raises(sizes, most)", "is_burden(sizes, most, thing)"],
+    keepers: ["led(sizes, most, keeper)", "worst(most, keeper, hours, size)"],
+    games: ["surest(most, hours, size)", "keepers_book(most, hours, size, ratio)",
+            "foes_book(most, hours, size, ratio)", "is_keepers_book(most, hours, size, ratio, thing)",
+            "is_foes_book(most, hours, size, ratio, thing)"],
 }
 
 

@@ -82,6 +82,24 @@ def odd_things():
     return numbers + plain_things() + tuple_things() + deep_things() + package_objects()
 
 
+def has_flag(thing):
+    """Whether a thing is a flag, or a tuple with one within it."""
+    return isinstance(thing, bool) or (isinstance(thing, tuple) and any(has_flag(inner) for inner in thing))
+
+
+def odd_keys():
+    """Things of every kind that can be keys of a dict, without flags."""
+    found = []
+    for thing in odd_things():
+        try:
+            hash(thing)
+        except TypeError:
+            continue
+        if not has_flag(thing):
+            found.append(thing)
+    return found
+
+
 def is_int(thing):
     """Whether a thing is an integer, asked in another way than the package asks it."""
     return type(thing) is int
