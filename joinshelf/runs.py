@@ -78,6 +78,11 @@ def look(feed, shelf, hour, key):
         raise NoHour()
     if not is_key(key):
         raise NoKey()
+    return look_into(feed, shelf, hour, key)
+
+
+def look_into(feed, shelf, hour, key):
+    """What look tells, of arguments that are right ones."""
     looked = 0
     for first, last in reversed([run for run in shelf if run[0] <= hour]):
         looked += 1

@@ -6,8 +6,8 @@ import pathlib
 import unittest
 
 import joinshelf
-from joinshelf import (burdens, costs, feeds, floors, games, keepers, leasts, plans, rests, rules, runs, tasks, trades,
-                       trees, wides, windows)
+from joinshelf import (burdens, costs, desks, feeds, floors, games, keepers, leasts, plans, reading, rests, rules, runs,
+                       stores, tasks, texts, trades, trees, wides, windows)
 
 FOLDER = pathlib.Path(joinshelf.__file__).parent
 
@@ -35,6 +35,15 @@ FUNCTIONS = {
     games: ["surest(most, hours, size)", "keepers_book(most, hours, size, ratio)",
             "foes_book(most, hours, size, ratio)", "is_keepers_book(most, hours, size, ratio, thing)",
             "is_foes_book(most, hours, size, ratio, thing)"],
+    texts: ["batch_text(batch)", "feed_text(feed)", "plan_text(plan)"],
+    reading: ["read_batch(text)", "read_feed(text)", "read_plan(text)"],
+}
+
+METHODS = {
+    stores.Store: ["put(self, batch, stay)", "keep(self)", "runs(self)", "look(self, key)", "look_at(self, hour, key)",
+                   "stretch(self, low, high)", "rows(self)", "feed(self)", "plan(self)", "back(self)", "steps(self)",
+                   "copy(self)", "trying(self, action)"],
+    desks.Desk: ["tell(self, line)", "undoable(self)"],
 }
 
 
@@ -54,6 +63,15 @@ class InterfaceTest(unittest.TestCase):
             self.assertEqual(str(inspect.signature(made)), told)
             self.assertIn("__eq__", vars(made))
             self.assertEqual(made.__bases__, (object,))
+
+    def test_methods(self):
+        for made, module, told in [(stores.Store, stores, "(most)"), (desks.Desk, desks, "()")]:
+            self.assertEqual(made.__module__, module.__name__)
+            self.assertEqual(str(inspect.signature(made)), told)
+            for line in METHODS[made]:
+                function = vars(made)[line.partition("(")[0]]
+                self.assertTrue(inspect.isfunction(function))
+                self.assertEqual(function.__name__ + str(inspect.signature(function)), line)
 
 
 class FormTest(unittest.TestCase):

@@ -5,7 +5,9 @@ import random
 import unittest
 
 from joinshelf import errors
+from joinshelf.desks import Desk
 from joinshelf.feeds import Feed
+from joinshelf.stores import Store
 from joinshelf.tasks import Task, task_of_sizes
 
 BIG = 10 ** 60 - 1
@@ -36,7 +38,12 @@ def package_objects():
     """An object of each class of the package, and the classes themselves."""
     classes = [getattr(errors, name) for name in FIELDS]
     made = [getattr(errors, name)(*fields) for name, fields in FIELDS.items()]
-    return made + classes + [F, Feed, T, Task, errors.ShelfError, errors.ShelfError()]
+    filled = Store(2)
+    filled.put(((1, 5),), 0)
+    led = Desk()
+    led.tell("store abc 3")
+    objects = [F, T, Store(1), filled, Desk(), led, errors.ShelfError()]
+    return made + classes + objects + [Feed, Task, Store, Desk, errors.ShelfError]
 
 
 def plain_things():
